@@ -1,0 +1,1 @@
+"""Neverowing: many worlds, one foe, one purse."""

@@ -1,0 +1,303 @@
+"""Looks for code that breaks a rule of LANGUAGE.md; each fault is a pair of a rule and a line.
+
+Only what a rule says of the mere text or tree of a file is looked for here.
+"""
+
+import ast
+import builtins
+import io
+import re
+import tokenize
+import warnings
+
+PACKAGE = "neverowing"
+LIBRARY = {
+    "heapq": "heappush heappop heapify heapreplace heappushpop".split(),
+    "math": "gcd lcm isqrt comb perm factorial".split(),
+    "itertools": "product combinations permutations".split(),
+}
+BUILTINS = """len range enumerate zip min max sum abs sorted reversed int str bool bytes list tuple dict set
+isinstance ord repr any all divmod Exception ValueError TypeError KeyError IndexError LookupError
+ZeroDivisionError ArithmeticError OverflowError RuntimeError NotImplementedError AttributeError StopIteration
+NotImplemented iter next map super property staticmethod classmethod object float""".split()
+DOUBLE = """__init__ __eq__ __repr__ __str__ __len__ __enter__ __exit__ __call__ __iter__ __lt__ __le__ __gt__
+__ge__ __ne__ __add__ __sub__ __mul__ __floordiv__ __mod__ __pow__ __and__ __or__ __xor__ __lshift__ __rshift__
+__radd__ __rsub__ __rmul__ __rfloordiv__ __rmod__ __rand__ __ror__ __rxor__ __rlshift__ __rrshift__ __iadd__
+__isub__ __imul__ __ifloordiv__ __imod__ __ipow__ __iand__ __ior__ __ixor__ __ilshift__ __irshift__ __neg__
+__pos__ __invert__ __abs__ __bool__ __contains__ __getitem__ __setitem__""".split()
+METHODS = """append clear copy count endswith extend find get index insert isalnum isalpha isdigit islower isspace
+isupper items join keys ljust lower lstrip partition pop remove replace reverse rfind rjust rpartition rsplit
+rstrip setdefault split splitlines startswith strip update upper values zfill bit_length title capitalize
+swapcase casefold center expandtabs removeprefix removesuffix rindex isascii isdecimal isnumeric istitle
+isidentifier isprintable translate sort add discard""".split()
+STATEMENTS = """FunctionDef ClassDef Assign AugAssign AnnAssign If While For Return Break Continue Pass Raise
+Assert Delete Nonlocal Match With Try Expr ImportFrom""".split()
+ON_THE_SPOT = ("zip", "enumerate", "reversed", "range")
+TAKE_ANY = "list tuple dict sorted sum any all enumerate zip bytes min max len reversed".split()
+KEYWORDS = {"sorted": ["key", "reverse"], "min": ["key", "default"], "max": ["key", "default"], "sum": ["start"],
+            "enumerate": ["start"], "zip": ["strict"]}
+BARRED = """register mro elements open input law version_info with_traceback add_note attrgetter breakpoint
+builtins compile copyright credits delattr dir eval exec exit gc getattr globals hasattr help id importlib license
+locals methodcaller os quit setattr super type vars sys""".split()
+WORDS = """type typing typing_extensions enum Enum IntEnum StrEnum Flag IntFlag Generic Protocol ABC ABCMeta
+namedtuple NamedTuple TypedDict TYPE_CHECKING abstractmethod""".split()
+
+
+def builtin_attributes():
+    return {name for value in ("", 0, [], {}, set(), b"", ()) for name in dir(value)}
+
+
+def faults_of(text):
+    """The faults of one file."""
+    found = text_faults(text)
+    with warnings.catch_warnings():
+        warnings.simplefilter("error")
+        try:
+            compile(text, "file", "exec")
+        except (SyntaxError, SyntaxWarning):
+            # Python raises the one or the other for a warning that is made an error.
+            return found + [("L27", 1)]
+        tree = ast.parse(text)
+    for node in ast.walk(tree):
+        for child in ast.iter_child_nodes(node):
+            child.parent = node
+    return found + module_faults(tree) + tree_faults(tree, local_names(tree))
+
+
+def text_faults(text):
+    lines = text.split("\n")
+    found = [("L14", k) for k, line in enumerate(lines, 1) if not all(" " <= sign <= "~" for sign in line)]
+    found += [("L10", k) for k, line in enumerate(lines, 1) if len(line) > 120 or "\t" in line]
+    if len(text.splitlines()) > 399:
+        found.append(("L10", 399))
+    if re.search(r"_wall|_WallAttr", text):
+        found.append(("L12", 1))
+    for token in tokenize.generate_tokens(io.StringIO(text).readline):
+        if token.type == tokenize.STRING and re.search(r"\\[^nt\\'\"]", token.string.replace("\\\\", "")):
+            found.append(("L27", token.start[0]))
+    return found
+
+
+def local_names(tree):
+    """The names that are assigned anywhere in the file, but for attributes."""
+    names = {node.id for node in ast.walk(tree) if isinstance(node, ast.Name) and isinstance(node.ctx, ast.Store)}
+    names |= {node.arg for node in ast.walk(tree) if isinstance(node, ast.arg)}
+    return names | {node.name for node in ast.walk(tree) if isinstance(node, ast.ExceptHandler) and node.name}
+
+
+def module_faults(tree):
+    found = []
+    bound = []
+    for k, node in enumerate(tree.body):
+        if isinstance(node, ast.ImportFrom):
+            before = tree.body[:k]
+            if not all(isinstance(one, ast.ImportFrom) or is_docstring(one) for one in before):
+                found.append(("L2", node.lineno))
+            bound += [alias.asname or alias.name for alias in node.names]
+        elif isinstance(node, (ast.FunctionDef, ast.ClassDef)):
+            bound.append(node.name)
+        elif isinstance(node, ast.Assign) and len(node.targets) == 1 and isinstance(node.targets[0], ast.Name):
+            bound.append(node.targets[0].id)
+            if any(isinstance(one, (ast.Call, ast.ListComp, ast.Lambda)) for one in ast.walk(node.value)):
+                found.append(("L3", node.lineno))
+        elif not (k == 0 and is_docstring(node)):
+            found.append(("L3", node.lineno))
+    if len(set(bound)) < len(bound):
+        found.append(("L15", 1))
+    own = {node.name for node in tree.body if isinstance(node, ast.ClassDef)}
+    own |= {alias.name for node in tree.body if isinstance(node, ast.ImportFrom) for alias in node.names}
+    nested = {node.name for node in ast.walk(tree)
+              if isinstance(node, ast.FunctionDef) and isinstance(node.parent, ast.FunctionDef)}
+    if own & (local_names(tree) | nested):
+        found.append(("L15", 1))
+    return found
+
+
+def is_docstring(node):
+    return isinstance(node, ast.Expr) and isinstance(node.value, ast.Constant) and isinstance(node.value.value, str)
+
+
+def tree_faults(tree, names):
+    found = []
+    for node in ast.walk(tree):
+        for looks in (statement_rules, function_rules, class_rules, value_rules, name_rules, call_rules, set_rules):
+            found += [(rule, getattr(node, "lineno", 1)) for rule in looks(node)]
+        if isinstance(node, ast.Name) and hasattr(builtins, node.id):
+            if node.id not in BUILTINS or node.id in names:
+                found.append(("L8", node.lineno))
+    return found
+
+
+def statement_rules(node):
+    if isinstance(node, ast.stmt) and type(node).__name__ not in STATEMENTS:
+        yield "L2" if isinstance(node, ast.Import) else "L6"
+    if isinstance(node, ast.ImportFrom):
+        wanted = LIBRARY.get(node.module)
+        if node.level or not (wanted or node.module.startswith(PACKAGE + ".")):
+            yield "L2"
+        if any(alias.name == "*" or alias.asname or (wanted and alias.name not in wanted) for alias in node.names):
+            yield "L2"
+    if isinstance(node, ast.Raise) and node.exc is not None:
+        if not (isinstance(node.exc, ast.Call) and isinstance(node.exc.func, ast.Name)):
+            yield "L19"
+    if isinstance(node, ast.ExceptHandler):
+        caught = node.type.elts if isinstance(node.type, ast.Tuple) else [node.type]
+        barred = "Exception TypeError ArithmeticError OverflowError RuntimeError AttributeError".split()
+        if not caught or any(one is None or getattr(one, "id", "") in barred for one in caught):
+            yield "L19"
+    if isinstance(node, ast.Expr) and not is_docstring(node):
+        if not isinstance(node.value, (ast.Call, ast.Yield, ast.YieldFrom)):
+            yield "L6"
+
+
+def function_rules(node):
+    if not isinstance(node, ast.FunctionDef):
+        return
+    first = node.decorator_list[0].lineno if node.decorator_list else node.lineno
+    if node.end_lineno - first + 1 > 40:
+        yield "L10"
+    for one in node.decorator_list:
+        if not (isinstance(one, ast.Attribute) and one.attr == "setter"):
+            if getattr(one, "id", "") not in ("property", "staticmethod", "classmethod"):
+                yield "L4"
+    in_class = isinstance(node.parent, ast.ClassDef)
+    if node.name.startswith("__") and (node.name not in DOUBLE or not in_class):
+        yield "L5" if in_class else "L28"
+    returns = [one for one in ast.walk(node) if isinstance(one, ast.Return)]
+    if node.name == "__init__" and any(one.value is not None for one in returns):
+        yield "L28"
+    if node.name in ("__len__", "__str__", "__repr__") and not isinstance(node.body[-1], ast.Return):
+        yield "L28"
+    if in_class and node.name in builtin_attributes() - set(METHODS) - set(DOUBLE):
+        yield "L26"
+
+
+def class_rules(node):
+    if isinstance(node, ast.ClassDef):
+        if node.decorator_list or node.keywords or not isinstance(node.parent, ast.Module):
+            yield "L5"
+        methods = [one.name for one in node.body if isinstance(one, ast.FunctionDef)]
+        kept = {one.attr for one in ast.walk(node) if isinstance(one, ast.Attribute)
+                and isinstance(one.ctx, ast.Store) and getattr(one.value, "id", "") == "self"}
+        if len(set(methods)) < len(methods) or kept & set(methods):
+            yield "L18"
+        if kept & (builtin_attributes() - set("count index title find get join lower upper split strip copy".split())):
+            yield "L26"
+
+
+def value_rules(node):
+    if isinstance(node, ast.Constant):
+        if isinstance(node.value, (float, complex)) or (node.value is Ellipsis):
+            yield "L7"
+        if isinstance(node.value, str) and not is_docstring(node.parent):
+            if re.fullmatch(r"__.*__", node.value, re.S) and node.value != "__main__":
+                yield "L27"
+            if any(word in WORDS[1:] for word in re.findall(r"\w+", node.value)):
+                yield "L17"
+        if isinstance(node.value, str) and ("%" in node.value or node.value.endswith(("._", ".__"))):
+            yield "L27"
+    if isinstance(node, ast.Div) or (isinstance(node, ast.Set) and len(node.elts) > 2 and all_integers(node)):
+        yield "L7" if isinstance(node, ast.Div) else "L13"
+    if isinstance(node, ast.GeneratorExp):
+        owner = node.parent
+        if not (isinstance(owner, ast.Call) and getattr(owner.func, "id", "") in ("list", "tuple", "dict")):
+            if not (isinstance(owner, ast.Call) and getattr(owner.func, "attr", "") == "join"):
+                yield "L7"
+    if isinstance(node, ast.Compare):
+        for sign, right in zip(node.ops, node.comparators):
+            if isinstance(sign, (ast.Is, ast.IsNot)) and not isinstance(right, ast.Constant):
+                yield "L20"
+            if isinstance(sign, (ast.Is, ast.IsNot)) and getattr(right, "value", None) not in (None, True, False):
+                yield "L20"
+    if isinstance(node, ast.BinOp) and isinstance(node.op, ast.Pow) and isinstance(node.left, ast.Constant):
+        if node.left.value == 2 and not isinstance(node.right, ast.Constant):
+            yield "L27"
+    if isinstance(node, ast.Await):
+        yield "L6"
+
+
+def all_integers(node):
+    return all(isinstance(one, ast.Constant) and isinstance(one.value, int) for one in node.elts)
+
+
+def names_in(node):
+    """The pairs of a name in this node and whether it is an attribute or a method."""
+    if isinstance(node, ast.Name):
+        return [(node.id, False)]
+    if isinstance(node, ast.arg):
+        return [(node.arg, False)]
+    if isinstance(node, ast.Attribute):
+        return [(node.attr, True)]
+    if isinstance(node, ast.FunctionDef):
+        return [(node.name, isinstance(node.parent, ast.ClassDef))]
+    if isinstance(node, (ast.ClassDef, ast.ExceptHandler)):
+        return [(node.name, False)] if node.name else []
+    if isinstance(node, ast.keyword):
+        return [(node.arg, True)] if node.arg else []
+    if isinstance(node, ast.alias):
+        return [(node.name, False)]
+    return []
+
+
+def name_rules(node):
+    for name, is_attribute in names_in(node):
+        if name in DOUBLE:
+            continue
+        if not re.fullmatch(r"_?[A-Za-z][A-Za-z0-9_]*|_", name):
+            yield "L12"
+        if name in WORDS or name in BARRED[:9] or re.match(r"(f|tb|co|gi|cr|ag)_(?!.*_.*_)[a-z]+$", name):
+            yield "L17"
+        if not is_attribute and (name in BARRED and name != "super"):
+            yield "L17"
+        if name in ("format", "format_map"):
+            yield "L8"
+    if isinstance(node, ast.Name) and node.id == "_" and isinstance(node.ctx, ast.Load):
+        yield "L12"
+    if isinstance(node, (ast.FunctionDef, ast.ClassDef, ast.arg)):
+        name = node.arg if isinstance(node, ast.arg) else node.name
+        if hasattr(builtins, name) and not isinstance(getattr(node, "parent", None), ast.ClassDef):
+            yield "L15"
+
+
+def call_rules(node):
+    if isinstance(node, ast.Attribute) and isinstance(node.ctx, ast.Load):
+        if node.attr in builtin_attributes() - set(METHODS) and node.attr not in ("maketrans", "__init__"):
+            yield "L25"
+    if not isinstance(node, ast.Call):
+        return
+    name = getattr(node.func, "id", "")
+    words = [one.arg for one in node.keywords]
+    if name in BUILTINS and any(word not in KEYWORDS.get(name, []) for word in words):
+        yield "L22"
+    if isinstance(node.func, ast.Constant) or isinstance(node.func, ast.Lambda):
+        yield "L7"
+    if name in ON_THE_SPOT and not stands_on_the_spot(node):
+        yield "L23"
+    if getattr(node.func, "attr", "") in ("items", "keys", "values") and not stands_on_the_spot(node):
+        yield "L23"
+
+
+def stands_on_the_spot(node):
+    owner = node.parent
+    if isinstance(owner, (ast.For, ast.comprehension)):
+        return owner.iter is node
+    if isinstance(owner, ast.Call):
+        return getattr(owner.func, "id", "") in TAKE_ANY or getattr(owner.func, "attr", "") == "join"
+    if isinstance(owner, ast.Assign):
+        return isinstance(owner.targets[0], ast.Name)
+    return isinstance(owner, ast.Compare) and isinstance(owner.ops[0], (ast.In, ast.NotIn))
+
+
+def set_rules(node):
+    called = isinstance(node, ast.Call) and getattr(node.func, "id", "") in ("set", "frozenset")
+    if not (called or isinstance(node, (ast.Set, ast.SetComp))):
+        return
+    owner = node.parent
+    while isinstance(owner, ast.BinOp):
+        owner = owner.parent
+    if isinstance(owner, ast.Call) and getattr(owner.func, "id", "") in ("sorted", "len"):
+        return
+    if isinstance(owner, ast.Assign) and isinstance(owner.targets[0], ast.Name):
+        return
+    if not isinstance(owner, ast.Compare):
+        yield "L24"

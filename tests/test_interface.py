@@ -1,0 +1,97 @@
+"""The names, arguments and kinds of the interface."""
+
+import inspect
+import unittest
+
+from neverowing import errors, shares, worlds
+from neverowing.shares import Share
+from neverowing.worlds import World
+from tests.helpers import example
+
+SHARE_METHODS = {
+    "__init__": "(self, top, bottom=1)",
+    "__add__": None, "__radd__": None, "__sub__": None, "__rsub__": None,
+    "__mul__": None, "__rmul__": None, "__neg__": None, "__eq__": None,
+    "below": "(self, x)",
+}
+WORLD_METHODS = {
+    "__init__": "(self, turns, asks, *, start=0)",
+    "__eq__": "(self, other)",
+    "names": "(self)",
+    "by_turns": "(self, standing)",
+    "asked": "(self, standing)",
+    "answers": "(self, standing, name)",
+    "price": "(self, standing, name, goal)",
+    "reach": "(self, standing)",
+    "with_start": "(self, start)",
+    "with_price": "(self, standing, name, goal, price)",
+    "without_answer": "(self, standing, name, goal)",
+    "without_ask": "(self, standing, name)",
+    "scaled": "(self, factor)",
+    "renamed": "(self, order)",
+}
+
+
+class InterfaceTest(unittest.TestCase):
+    def check_methods(self, kind, methods):
+        for name, arguments in methods.items():
+            self.assertIn(name, vars(kind), "defined in the class itself")
+            if arguments is not None:
+                self.assertEqual(str(inspect.signature(vars(kind)[name])), arguments, name)
+
+    def test_share_methods(self):
+        self.check_methods(Share, SHARE_METHODS)
+
+    def test_world_methods(self):
+        self.check_methods(World, WORLD_METHODS)
+
+    def test_error_argument(self):
+        self.assertEqual(str(inspect.signature(errors.OweError)), "(what=None)")
+        self.assertEqual(str(inspect.signature(errors.BadText)), "(what=None)")
+
+    def test_classes_are_defined_where_they_are_listed(self):
+        self.assertEqual(Share.__module__, shares.__name__)
+        self.assertEqual(World.__module__, worlds.__name__)
+
+    def test_share_attributes_are_set(self):
+        self.assertEqual(sorted(vars(Share(2, 4))), ["bottom", "top"])
+
+    def test_world_attributes_are_set(self):
+        for name in ("turns", "asks", "start", "size"):
+            self.assertIn(name, vars(example()))
+
+    def test_start_of_a_world_is_passed_by_its_name_alone(self):
+        with self.assertRaises(TypeError):
+            World(((),), ((("a", ((0, 0),)),),), 0)
+
+    def test_world_arguments_by_name(self):
+        world = World(start=1, asks=example().asks, turns=example().turns)
+        self.assertEqual(world.start, 1)
+        self.assertEqual(world.by_turns(standing=1), [0, 1])
+        self.assertEqual(world.asked(standing=1), ["go"])
+        self.assertEqual(world.answers(name="go", standing=1), [(0, 3)])
+        self.assertEqual(world.price(goal=1, name="go", standing=0), 0)
+        self.assertEqual(world.reach(standing=0), [0, 1])
+        self.assertEqual(world.with_start(start=0).start, 0)
+        self.assertEqual(world.with_price(price=9, goal=0, name="go", standing=1).price(1, "go", 0), 9)
+        self.assertEqual(world.without_answer(goal=0, name="go", standing=0).answers(0, "go"), [(1, 0)])
+        self.assertEqual(world.without_ask(name="go", standing=1).asked(1), [])
+        self.assertEqual(world.scaled(factor=2).price(1, "go", 0), 6)
+        self.assertEqual(world.renamed(order=(1, 0)).start, 0)
+
+    def test_kinds_of_the_answers(self):
+        world = example()
+        for told in (world.names(), world.by_turns(0), world.asked(0), world.answers(0, "go"), world.reach(0)):
+            self.assertIs(type(told), list)
+        self.assertIs(type(world.answers(0, "go")[0]), tuple)
+        self.assertIs(type(world.names()[0]), str)
+        self.assertIs(type(world.reach(0)[0]), int)
+        self.assertIs(type(world.price(0, "go", 0)), int)
+        self.assertIs(type(world == world), bool)
+        for told in (world.with_start(1), world.with_price(0, "go", 0, 1), world.without_answer(0, "go", 0),
+                     world.without_ask(1, "go"), world.scaled(0), world.renamed((0, 1))):
+            self.assertIs(type(told), World)
+
+
+if __name__ == "__main__":
+    unittest.main()
