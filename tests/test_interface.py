@@ -3,7 +3,7 @@
 import inspect
 import unittest
 
-from neverowing import errors, shares, worlds
+from neverowing import errors, papers, purses, shares, worlds, worths
 from neverowing.shares import Share
 from neverowing.worlds import World
 from tests.helpers import example
@@ -30,6 +30,30 @@ WORLD_METHODS = {
     "scaled": "(self, factor)",
     "renamed": "(self, order)",
 }
+FUNCTIONS = {
+    worths: {
+        "worth": "(world, asks, *, start=None)",
+        "worths": "(world, asks, *, start=None)",
+        "best_ask": "(world, asks, *, start=None)",
+        "best_answer": "(world, asks, standing, name)",
+    },
+    purses: {
+        "grain": "(world, income)",
+        "income_at": "(world, income, name)",
+        "purse": "(world, income, *, start=None)",
+        "purses": "(world, income)",
+        "purse_for": "(world, income, asks, *, start=None)",
+        "mean": "(world, *, start=None)",
+        "ladder": "(world, incomes, *, start=None)",
+    },
+    papers: {
+        "keeper_fault": "(world, income, purse, heights, table, *, start=None)",
+        "keeper_paper": "(world, income, *, start=None)",
+        "foe_fault": "(world, income, least, lows, ranks, moves, *, start=None)",
+        "foe_paper": "(world, income, least, *, start=None)",
+        "play": "(world, income, table, moves, asks, *, start=None)",
+    },
+}
 
 
 class InterfaceTest(unittest.TestCase):
@@ -44,6 +68,13 @@ class InterfaceTest(unittest.TestCase):
 
     def test_world_methods(self):
         self.check_methods(World, WORLD_METHODS)
+
+    def test_functions(self):
+        for module, functions in FUNCTIONS.items():
+            for name, arguments in functions.items():
+                call = vars(module)[name]
+                self.assertEqual(str(inspect.signature(call)), arguments, name)
+                self.assertEqual(call.__module__, module.__name__, "defined in this file")
 
     def test_error_argument(self):
         self.assertEqual(str(inspect.signature(errors.OweError)), "(what=None)")
@@ -78,6 +109,41 @@ class InterfaceTest(unittest.TestCase):
         self.assertEqual(world.without_ask(name="go", standing=1).asked(1), [])
         self.assertEqual(world.scaled(factor=2).price(1, "go", 0), 6)
         self.assertEqual(world.renamed(order=(1, 0)).start, 0)
+
+    def test_function_arguments_by_name(self):
+        w = example()
+        half = Share(3, 2)
+        table = {(0, "go"): 1, (1, "go"): 0}
+        moves = {0: (0, "go"), 1: (1, "go")}
+        self.assertEqual(worths.worth(asks=2, world=w, start=1), 3)
+        self.assertEqual(worths.worths(start=1, asks=1, world=w), [0, 3])
+        self.assertEqual(worths.best_ask(start=0, asks=1, world=w), (0, "go"))
+        self.assertEqual(worths.best_answer(name="go", standing=1, asks=1, world=w), 0)
+        self.assertEqual(purses.grain(income=half, world=w), 2)
+        self.assertEqual(purses.income_at(name="go", income=half, world=w), 3)
+        self.assertEqual(purses.purse(start=1, income=half, world=w), 3)
+        self.assertEqual(purses.purses(income=half, world=w), [0, 3])
+        self.assertEqual(purses.purse_for(start=1, asks=1, income=half, world=w), 3)
+        self.assertEqual(purses.mean(start=1, world=w), half)
+        self.assertEqual(purses.ladder(start=1, incomes=[half], world=w), [3])
+        self.assertIsNone(papers.keeper_fault(start=1, table=table, heights={0: 0, 1: 3}, purse=3, income=half, world=w))
+        self.assertEqual(papers.keeper_paper(start=1, income=half, world=w), ({0: 0, 1: 3}, table))
+        self.assertEqual(papers.foe_fault(start=0, moves=moves, ranks={0: 0}, lows={0: 1, 1: 2}, least=1,
+                                          income=Share(1), world=w), ("rank", 1))
+        self.assertIsNone(papers.foe_paper(start=0, least=1, income=half, world=w))
+        self.assertEqual(papers.play(start=1, asks=1, moves=moves, table=table, income=half, world=w),
+                         [(1, "go", 0, -3)])
+
+    def test_what_stands_behind_a_star(self):
+        w = example()
+        for call, args in ((worths.worth, (w, 1)), (worths.worths, (w, 1)), (worths.best_ask, (w, 1)),
+                           (purses.purse, (w, Share(2))), (purses.purse_for, (w, Share(2), 1)), (purses.mean, (w,)),
+                           (purses.ladder, (w, [])), (papers.keeper_fault, (w, Share(2), 0, {}, {})),
+                           (papers.keeper_paper, (w, Share(2))), (papers.foe_fault, (w, Share(2), 0, {}, {}, {})),
+                           (papers.foe_paper, (w, Share(2), 0)), (papers.play, (w, Share(2), {}, {}, 0))):
+            call(*args, start=0)
+            with self.assertRaises(TypeError):
+                call(*args, 0)
 
     def test_kinds_of_the_answers(self):
         world = example()
