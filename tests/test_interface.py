@@ -3,8 +3,11 @@
 import inspect
 import unittest
 
-from neverowing import errors, papers, purses, shares, worlds, worths
+from neverowing import errors, joins, labels, papers, purses, rules, shares, wholes, worlds, worths
+from neverowing.labels import LabelWorld
+from neverowing.rules import Rule
 from neverowing.shares import Share
+from neverowing.wholes import Behind, Side, Step
 from neverowing.worlds import World
 from tests.helpers import example
 
@@ -30,6 +33,20 @@ WORLD_METHODS = {
     "scaled": "(self, factor)",
     "renamed": "(self, order)",
 }
+WHOLE_METHODS = {"tuple_of": "(self, standing)", "number_of": "(self, standings)"}
+METHODS = {
+    Share: SHARE_METHODS,
+    World: WORLD_METHODS,
+    Side: {"__init__": "(self, worlds)", **WHOLE_METHODS},
+    Step: {"__init__": "(self, worlds)", **WHOLE_METHODS},
+    Behind: {"__init__": "(self, first, second, links)", **WHOLE_METHODS},
+    Rule: {"__init__": "(self, world, choice)", "table": "(self)", "__call__": "(self, standing, name)",
+           "__eq__": "(self, other)"},
+    LabelWorld: {"__init__": "(self, things, labels)", "standings": "(self)", "gaps": "(self, standing)",
+                 "nexts": "(self, standing, gap)", "moved": "(self, standing, gap, goal)",
+                 "left": "(self, standing, place)", "as_world": "(self)"},
+}
+FILES = {Share: shares, World: worlds, Side: wholes, Step: wholes, Behind: wholes, Rule: rules, LabelWorld: labels}
 FUNCTIONS = {
     worths: {
         "worth": "(world, asks, *, start=None)",
@@ -53,6 +70,16 @@ FUNCTIONS = {
         "foe_paper": "(world, income, least, *, start=None)",
         "play": "(world, income, table, moves, asks, *, start=None)",
     },
+    joins: {
+        "join_income": "(whole, incomes)",
+        "join_keeper": "(whole, incomes, papers)",
+        "join_foe": "(side, incomes, papers)",
+    },
+    rules: {
+        "rule_world": "(rule)",
+        "breaking": "(rule, income, purse, *, start=None)",
+        "follows": "(rule, table)",
+    },
 }
 
 
@@ -63,11 +90,9 @@ class InterfaceTest(unittest.TestCase):
             if arguments is not None:
                 self.assertEqual(str(inspect.signature(vars(kind)[name])), arguments, name)
 
-    def test_share_methods(self):
-        self.check_methods(Share, SHARE_METHODS)
-
-    def test_world_methods(self):
-        self.check_methods(World, WORLD_METHODS)
+    def test_methods(self):
+        for kind, methods in METHODS.items():
+            self.check_methods(kind, methods)
 
     def test_functions(self):
         for module, functions in FUNCTIONS.items():
@@ -81,8 +106,17 @@ class InterfaceTest(unittest.TestCase):
         self.assertEqual(str(inspect.signature(errors.BadText)), "(what=None)")
 
     def test_classes_are_defined_where_they_are_listed(self):
-        self.assertEqual(Share.__module__, shares.__name__)
-        self.assertEqual(World.__module__, worlds.__name__)
+        for kind, module in FILES.items():
+            self.assertEqual(kind.__module__, module.__name__)
+
+    def test_attributes_are_there(self):
+        w = example()
+        links = {("go", 0): "go", ("go", 1): "go"}
+        for told, names in ((Side([w, w]), ["parts", "world"]), (Step([w, w]), ["parts", "world"]),
+                            (Behind(w, w, links), ["parts", "world", "links"]), (Rule(w, "first"), ["world"]),
+                            (LabelWorld(2, 3), ["things", "labels"])):
+            for name in names:
+                self.assertTrue(hasattr(told, name))
 
     def test_share_attributes_are_set(self):
         self.assertEqual(sorted(vars(Share(2, 4))), ["bottom", "top"])
@@ -134,13 +168,31 @@ class InterfaceTest(unittest.TestCase):
         self.assertEqual(papers.play(start=1, asks=1, moves=moves, table=table, income=half, world=w),
                          [(1, "go", 0, -3)])
 
+    def test_arguments_of_wholes_and_rules_by_name(self):
+        w = example()
+        links = {("go", 0): "go", ("go", 1): "go"}
+        half = Share(3, 2)
+        self.assertEqual(Step(worlds=[w, w]).world, Behind(links=links, second=w, first=w).world)
+        side = Side(worlds=[w, w])
+        incomes = [half, half]
+        keepers = [papers.keeper_paper(w, half)] * 2
+        foes = [papers.foe_paper(w, half, 0)] * 2
+        self.assertEqual(joins.join_income(incomes=incomes, whole=side), {"ago": half, "bgo": half})
+        self.assertEqual(joins.join_keeper(papers=keepers, incomes=incomes, whole=side)[0], {0: 0, 1: 3, 2: 3, 3: 6})
+        self.assertEqual(joins.join_foe(papers=foes, incomes=incomes, side=side)[0][0], 0)
+        rule = Rule(choice="first", world=w)
+        self.assertEqual(rules.rule_world(rule=rule).price(0, "go", 0), 2)
+        self.assertEqual(rules.breaking(start=0, purse=0, income=half, rule=rule), [(0, "go")])
+        self.assertTrue(rules.follows(table={}, rule=rule))
+
     def test_what_stands_behind_a_star(self):
         w = example()
         for call, args in ((worths.worth, (w, 1)), (worths.worths, (w, 1)), (worths.best_ask, (w, 1)),
                            (purses.purse, (w, Share(2))), (purses.purse_for, (w, Share(2), 1)), (purses.mean, (w,)),
                            (purses.ladder, (w, [])), (papers.keeper_fault, (w, Share(2), 0, {}, {})),
                            (papers.keeper_paper, (w, Share(2))), (papers.foe_fault, (w, Share(2), 0, {}, {}, {})),
-                           (papers.foe_paper, (w, Share(2), 0)), (papers.play, (w, Share(2), {}, {}, 0))):
+                           (papers.foe_paper, (w, Share(2), 0)), (papers.play, (w, Share(2), {}, {}, 0)),
+                           (rules.breaking, (Rule(w, "first"), Share(2), 0))):
             call(*args, start=0)
             with self.assertRaises(TypeError):
                 call(*args, 0)
