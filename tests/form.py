@@ -42,6 +42,9 @@ locals methodcaller os quit setattr super type vars sys""".split()
 WORDS = """type typing typing_extensions enum Enum IntEnum StrEnum Flag IntFlag Generic Protocol ABC ABCMeta
 namedtuple NamedTuple TypedDict TYPE_CHECKING abstractmethod""".split()
 
+CHANGING = "append clear extend insert pop remove reverse setdefault update sort add discard".split()
+HEAPS = ("heappush", "heappop", "heapify", "heapreplace", "heappushpop")
+
 
 def builtin_attributes():
     return {name for value in ("", 0, [], {}, set(), b"", ()) for name in dir(value)}
@@ -120,7 +123,8 @@ def is_docstring(node):
 def tree_faults(tree, names):
     found = []
     for node in ast.walk(tree):
-        for looks in (statement_rules, function_rules, class_rules, value_rules, name_rules, call_rules, set_rules):
+        for looks in (statement_rules, function_rules, class_rules, value_rules, name_rules, call_rules, set_rules,
+                      library_rules, loop_rules, operator_rules):
             found += [(rule, getattr(node, "lineno", 1)) for rule in looks(node)]
         if isinstance(node, ast.Name) and hasattr(builtins, node.id):
             if node.id not in BUILTINS or node.id in names:
@@ -301,3 +305,59 @@ def set_rules(node):
         return
     if not isinstance(owner, ast.Compare):
         yield "L24"
+
+
+def library_rules(node):
+    """A name from the library is only called, by its bare name, with all arguments by position."""
+    if isinstance(node, ast.Name) and node.id in sum(LIBRARY.values(), []):
+        owner = node.parent
+        if not (isinstance(owner, ast.Call) and owner.func is node and not owner.keywords):
+            yield "L2"
+        while owner is not None and not isinstance(owner, ast.FunctionDef):
+            owner = getattr(owner, "parent", None)
+        if owner is None:
+            yield "L2"
+
+
+def gone_over(node):
+    """The texts of what a loop goes over, also through enumerate, zip and the like."""
+    if isinstance(node, ast.Call) and getattr(node.func, "id", "") in ("enumerate", "zip", "reversed"):
+        return [text for one in node.args for text in gone_over(one)]
+    if isinstance(node, ast.Call) and getattr(node.func, "attr", "") in ("items", "keys", "values"):
+        return gone_over(node.func.value)
+    if isinstance(node, (ast.IfExp, ast.BoolOp)):
+        parts = [node.body, node.orelse] if isinstance(node, ast.IfExp) else node.values
+        return [text for one in parts for text in gone_over(one)]
+    return [ast.unparse(node)] if isinstance(node, (ast.Name, ast.Attribute, ast.Subscript)) else []
+
+
+def changed_in(node):
+    """The texts of what a statement or a call changes in place."""
+    if isinstance(node, ast.Call) and getattr(node.func, "attr", "") in CHANGING:
+        return [ast.unparse(node.func.value)]
+    if isinstance(node, ast.Call) and getattr(node.func, "id", "") in HEAPS:
+        return [ast.unparse(node.args[0])]
+    if isinstance(node, ast.Subscript) and isinstance(node.ctx, (ast.Store, ast.Del)):
+        return [ast.unparse(node.value)]
+    if isinstance(node, ast.AugAssign):
+        return [ast.unparse(node.target)]
+    return []
+
+
+def loop_rules(node):
+    if isinstance(node, ast.For):
+        texts = gone_over(node.iter)
+        if any(text in texts for row in node.body for one in ast.walk(row) for text in changed_in(one)):
+            yield "L23"
+
+
+def operator_rules(node):
+    """Double-underscore methods but __init__, __call__ and in-place ones change nothing."""
+    if isinstance(node, ast.FunctionDef) and node.name in DOUBLE:
+        if node.name in ("__init__", "__call__", "__setitem__", "__exit__", "__enter__") or node.name[2] == "i":
+            return
+        for one in ast.walk(node):
+            if isinstance(one, (ast.Attribute, ast.Subscript)) and not isinstance(one.ctx, ast.Load):
+                yield "L5"
+            if isinstance(one, (ast.AugAssign, ast.Delete)) or changed_in(one):
+                yield "L5"
