@@ -29,3 +29,14 @@ def is_name(value):
 def is_ascending(items):
     """True if each item is less than the one behind it; the items are of one kind."""
     return all([low < high for low, high in zip(items, items[1:])])
+
+
+def copied(value):
+    """The value with new lists and dicts, also within lists, dicts and tuples."""
+    if isinstance(value, list):
+        return [copied(item) for item in value]
+    if isinstance(value, tuple):
+        return tuple([copied(item) for item in value])
+    if isinstance(value, dict):
+        return {key: copied(value[key]) for key in value}
+    return value

@@ -1,7 +1,7 @@
 """Worlds put together into a whole: side by side, in step, or one behind another."""
 
 from neverowing.errors import BadLink, BadWhole, NoStanding, TooMany
-from neverowing.kinds import LONGEST_NAME, is_index, is_integer
+from neverowing.kinds import LONGEST_NAME, copied, is_index, is_integer
 from neverowing.worlds import MOST_ASKS, MOST_STANDINGS, World, is_silent
 
 PART_LETTERS = "abcd"
@@ -89,12 +89,9 @@ class Behind:
             raise BadWhole("worlds")
         if not isinstance(links, dict):
             raise BadLink(None)
-        common = common_names(second)
-        for key in link_keys(first):
-            if links.get(key) not in common:
-                raise BadLink(key)
         self.parts = (first, second)
-        self._links = {key: links[key] for key in links}
+        self._names = linked_names(first, second, links)
+        self._links = copied(links)
         table = gathered(self)
         self._numbers = numbered(table)
         turns, asks = rows_of(self._numbers, table)
@@ -102,8 +99,8 @@ class Behind:
 
     @property
     def links(self):
-        """A new dict of the links."""
-        return {key: self._links[key] for key in self._links}
+        """A new dict of the links, with new lists and dicts within it."""
+        return copied(self._links)
 
     def tuple_of(self, standing):
         """The tuple of the standings of the parts at this standing of the whole."""
@@ -121,14 +118,14 @@ class Behind:
         for name, answers in first.asks[standings[0]]:
             told = []
             for goal, price in answers:
-                told.extend(joined_answers([((goal, price),), behind[self._links[(name, goal)]]]))
+                told.extend(joined_answers([((goal, price),), behind[self._names[(name, goal)]]]))
             asks.append((name, told))
         return asks
 
     def joined_goals(self, tables, standings, name):
         """The tuple of next standings that tables of the parts give for an ask of a tuple."""
         goal = tables[0][(standings[0], name)]
-        return goal, tables[1][(standings[1], self._links[(name, goal)])]
+        return goal, tables[1][(standings[1], self._names[(name, goal)])]
 
 
 def check_worlds(worlds):
@@ -153,6 +150,21 @@ def common_names(world):
 def link_keys(world):
     """The ascending list of the pairs of a name and a next standing of an ask of this name."""
     return sorted({(name, goal) for row in world.asks for name, answers in row for goal, _ in answers})
+
+
+def linked_names(first, second, links):
+    """The name of the second world for each link key of the first one; raises BadLink for a wrong one."""
+    told = {key: links[key] for key in links if is_link_key(key)}
+    common = common_names(second)
+    for key in link_keys(first):
+        if told.get(key) not in common:
+            raise BadLink(key)
+    return {key: told[key] for key in link_keys(first)}
+
+
+def is_link_key(key):
+    """True for a pair of a string and an integer; a key with a flag is equal to such a one, but is none."""
+    return isinstance(key, tuple) and len(key) == 2 and isinstance(key[0], str) and is_integer(key[1])
 
 
 def starts_of(parts):

@@ -8,7 +8,8 @@ from neverowing.errors import BadLink, BadWhole, NoStanding, TooMany
 from neverowing.shares import Share
 from neverowing.wholes import Behind, Side, Step
 from neverowing.worlds import World
-from tests.helpers import (error_of, example, loop_world, odd_values, picture, random_links, random_world, small_world)
+from tests.helpers import (error_of, example, loop_world, nested, odd_values, picture, random_links, random_world,
+                           small_world)
 
 
 def part_asks(part, standing):
@@ -320,6 +321,43 @@ class WholeTest(unittest.TestCase):
         self.assertEqual(whole.links, before)
         self.assertIsNot(whole.links, whole.links)
         self.assertEqual(Behind(w, w, before).world, whole.world)
+
+    def test_what_stands_deep_in_the_links_is_copied(self):
+        w = example()
+
+        def given():
+            return {("go", 0): "go", ("go", 1): "go", "list": [1], "dict": {1: [2], "k": {}}, "tuple": ([3], ({4: 5},)),
+                    (("x",), 1): [[], ((), [{}])], "deep": nested(list), "dicts": nested(dict), "tuples": nested(tuple),
+                    "share": Share(1, 2), "world": w, "flag": True}
+
+        links = given()
+        whole = Behind(w, w, links)
+        for change in (lambda told: told["list"].append(2), lambda told: told["dict"][1].clear(),
+                       lambda told: told["dict"]["k"].update(a=1), lambda told: told["tuple"][0].append(0),
+                       lambda told: told["tuple"][1][0].clear(), lambda told: told[(("x",), 1)][1][1][0].update(b=2),
+                       lambda told: told["deep"][0][0].append(7), lambda told: told["dicts"][0][0].clear()):
+            change(links)
+            self.assertEqual(picture(whole.links), picture(given()))
+            change(whole.links)
+            self.assertEqual(picture(whole.links), picture(given()))
+        self.assertIs(whole.links["world"], w)
+        # The innermost list or dict of a deep one, too.
+        for key, kind in (("deep", list), ("dicts", dict)):
+            for told in (links, whole.links):
+                value = told[key]
+                for _ in range(24):
+                    if value and value[0]:
+                        value = value[0]
+                value.clear()
+            self.assertEqual(picture(whole.links[key]), picture(nested(kind)))
+        self.assertEqual(whole.world, Behind(w, w, given()).world)
+
+    def test_link_under_a_key_with_a_flag_is_none(self):
+        w = example()
+        self.assertEqual(error_of(Behind, w, w, {("go", False): "go", ("go", 1): "go"}), (BadLink, ("go", 0)))
+        self.assertEqual(error_of(Behind, w, w, {("go", 0): "go", ("go", True): "go"}), (BadLink, ("go", 1)))
+        links = {("go", 0): "go", ("go", 1): "go", ("stay", True): [0]}
+        self.assertEqual(picture(Behind(w, w, links).links), picture(links))
 
     def test_lists_are_copied(self):
         w = example()
