@@ -5,7 +5,7 @@ from itertools import combinations
 from neverowing.checks import check_count
 from neverowing.errors import BadGap, BadLot, BadPlace
 from neverowing.kinds import is_ascending, is_index
-from neverowing.worlds import World
+from neverowing.tables import numbers_of, world_from
 
 MOST_THINGS = 4
 MOST_LABELS = 7
@@ -53,11 +53,7 @@ class LabelWorld:
     def as_world(self):
         """The world that starts with nothing."""
         lots = self.standings()
-        numbers = {lot: k for k, lot in enumerate(lots)}
-        turns = [sorted([numbers[self.left(lot, place)] for place in range(len(lot))]) for lot in lots]
-        asks = [tuple([("g" + GAP_LETTERS[gap], self._answers(numbers, lot, gap)) for gap in self.gaps(lot)])
-                for lot in lots]
-        return World(tuple([tuple(row) for row in turns]), tuple(asks))
+        return world_from(numbers_of(lots), {lot: (self._leavings(lot), self._asks(lot)) for lot in lots}, ())
 
     def _lots(self, many):
         """The ascending list of the standings with so many labels."""
@@ -73,9 +69,14 @@ class LabelWorld:
         if not self._is_lot(value):
             raise BadLot(value)
 
-    def _answers(self, numbers, lot, gap):
-        """The answers at a gap, by the numbers of the standings."""
-        return tuple([(numbers[goal], self.moved(lot, gap, goal)) for goal in self.nexts(lot, gap)])
+    def _leavings(self, lot):
+        """The standings that are left when one thing leaves."""
+        return [self.left(lot, place) for place in range(len(lot))]
+
+    def _asks(self, lot):
+        """The asks of a standing, with standings as next ones."""
+        return [("g" + GAP_LETTERS[gap], [(goal, self.moved(lot, gap, goal)) for goal in self.nexts(lot, gap)])
+                for gap in self.gaps(lot)]
 
 
 def without_item(items, at):

@@ -2,6 +2,7 @@
 
 from neverowing.errors import BadLink, BadWhole, NoStanding, TooMany
 from neverowing.kinds import LONGEST_NAME, copied, is_index, is_integer
+from neverowing.tables import rows_of
 from neverowing.worlds import MOST_ASKS, MOST_STANDINGS, World, is_silent
 
 PART_LETTERS = "abcd"
@@ -216,18 +217,6 @@ def gathered(whole):
 def numbered(table):
     """The dict of the number of each tuple, in ascending order."""
     return {standings: k for k, standings in enumerate(sorted(list(table)))}
-
-
-def rows_of(numbers, table):
-    """The turns and the asks of a world with these tuples, by their numbers."""
-    turns = []
-    rows = []
-    for standings in numbers:
-        goals, asks = table[standings]
-        turns.append(tuple(sorted([numbers[goal] for goal in goals])))
-        rows.append(tuple([(name, tuple(sorted([(numbers[goal], price) for goal, price in answers])))
-                           for name, answers in asks]))
-    return tuple(turns), tuple(rows)
 
 
 def tuple_at(numbers, standing):

@@ -3,9 +3,13 @@
 import inspect
 import unittest
 
-from neverowing import errors, joins, labels, papers, purses, rules, shares, wholes, worlds, worths
+from neverowing import (calls, errors, helpers, joins, labels, papers, purses, rules, seats, shares, wholes, worlds,
+                        worths)
+from neverowing.calls import CallWorld
+from neverowing.helpers import HelperWorld
 from neverowing.labels import LabelWorld
 from neverowing.rules import Rule
+from neverowing.seats import SeatWorld
 from neverowing.shares import Share
 from neverowing.wholes import Behind, Side, Step
 from neverowing.worlds import World
@@ -45,8 +49,17 @@ METHODS = {
     LabelWorld: {"__init__": "(self, things, labels)", "standings": "(self)", "gaps": "(self, standing)",
                  "nexts": "(self, standing, gap)", "moved": "(self, standing, gap, goal)",
                  "left": "(self, standing, place)", "as_world": "(self)"},
+    CallWorld: {"__init__": "(self, ins, outs, middles)", "standings": "(self)", "open_pairs": "(self, standing)",
+                "nexts": "(self, standing, pair)", "moved": "(self, standing, pair, goal)",
+                "ended": "(self, standing, pair, load)", "as_world": "(self)"},
+    SeatWorld: {"__init__": "(self, seats, wishes)", "standings": "(self)", "nexts": "(self, holding, wish)",
+                "moved": "(self, holding, wish, goal)", "left": "(self, holding, seat)", "as_world": "(self)"},
+    HelperWorld: {"__init__": "(self, recipes, rooms)", "standings": "(self)", "makeable": "(self)",
+                  "deeds": "(self, lot, goal)", "nexts": "(self, lot, value)", "way": "(self, lot, goal)",
+                  "as_world": "(self)"},
 }
-FILES = {Share: shares, World: worlds, Side: wholes, Step: wholes, Behind: wholes, Rule: rules, LabelWorld: labels}
+FILES = {Share: shares, World: worlds, Side: wholes, Step: wholes, Behind: wholes, Rule: rules, LabelWorld: labels,
+         CallWorld: calls, SeatWorld: seats, HelperWorld: helpers}
 FUNCTIONS = {
     worths: {
         "worth": "(world, asks, *, start=None)",
@@ -114,7 +127,10 @@ class InterfaceTest(unittest.TestCase):
         links = {("go", 0): "go", ("go", 1): "go"}
         for told, names in ((Side([w, w]), ["parts", "world"]), (Step([w, w]), ["parts", "world"]),
                             (Behind(w, w, links), ["parts", "world", "links"]), (Rule(w, "first"), ["world"]),
-                            (LabelWorld(2, 3), ["things", "labels"])):
+                            (LabelWorld(2, 3), ["things", "labels"]),
+                            (CallWorld((2,), (2,), 2), ["ins", "outs", "middles"]),
+                            (SeatWorld(1, ((0,),)), ["seats", "wishes"]),
+                            (HelperWorld((((),),), 1), ["recipes", "rooms"])):
             for name in names:
                 self.assertTrue(hasattr(told, name))
 
