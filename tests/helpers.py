@@ -4,7 +4,14 @@ import copy
 import random
 
 from neverowing import errors
+from neverowing.calls import CallWorld
+from neverowing.helpers import HelperWorld
+from neverowing.house import House
+from neverowing.labels import LabelWorld
+from neverowing.rules import Rule
+from neverowing.seats import SeatWorld
 from neverowing.shares import Share
+from neverowing.wholes import Step
 from neverowing.worlds import World
 
 # The example of [12].
@@ -34,7 +41,9 @@ def odd_values():
         [], [0], [0, 1], ["go"], [[]], [()],
         {}, {0: 1}, {"go": 0}, {(0, "go"): 1},
         nested(list), nested(tuple), nested(dict),
-        Share(1), Share(0), Share(1, 2), example(), errors.OweError(), errors.NoStanding(0),
+        Share(1), Share(0), Share(1, 2), example(), errors.OweError(), errors.NoStanding(0), errors.BadDiary([0]),
+        House(example(), Share(2), 0), Rule(example().scaled(7), "first"), Step([example(), example()]), LabelWorld(1, 1),
+        CallWorld((1,), (1,), 1), SeatWorld(1, ((0,),)), HelperWorld((((),),), 1),
     ]
 
 

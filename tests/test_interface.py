@@ -3,10 +3,11 @@
 import inspect
 import unittest
 
-from neverowing import (calls, errors, helpers, joins, labels, papers, purses, rules, seats, shares, wholes, worlds,
-                        worths)
+from neverowing import (ahead, calls, diaries, errors, helpers, house, joins, labels, papers, purses, rules, seats,
+                        shares, texts, wholes, worlds, worths)
 from neverowing.calls import CallWorld
 from neverowing.helpers import HelperWorld
+from neverowing.house import House
 from neverowing.labels import LabelWorld
 from neverowing.rules import Rule
 from neverowing.seats import SeatWorld
@@ -57,9 +58,13 @@ METHODS = {
     HelperWorld: {"__init__": "(self, recipes, rooms)", "standings": "(self)", "makeable": "(self)",
                   "deeds": "(self, lot, goal)", "nexts": "(self, lot, value)", "way": "(self, lot, goal)",
                   "as_world": "(self)"},
+    House: {"__init__": "(self, world, income, purse)", "turn": "(self, standing)", "answer": "(self, name, goal)",
+            "safe": "(self, name)", "is_safe": "(self)", "ask": "(self, name)", "undo": "(self)",
+            "trial": "(self, deeds)", "watch": "(self, deeds)", "__iadd__": "(self, deeds)", "__len__": "(self)",
+            "__contains__": "(self, thing)"},
 }
 FILES = {Share: shares, World: worlds, Side: wholes, Step: wholes, Behind: wholes, Rule: rules, LabelWorld: labels,
-         CallWorld: calls, SeatWorld: seats, HelperWorld: helpers}
+         CallWorld: calls, SeatWorld: seats, HelperWorld: helpers, House: house}
 FUNCTIONS = {
     worths: {
         "worth": "(world, asks, *, start=None)",
@@ -92,6 +97,30 @@ FUNCTIONS = {
         "rule_world": "(rule)",
         "breaking": "(rule, income, purse, *, start=None)",
         "follows": "(rule, table)",
+    },
+    diaries: {
+        "can_be": "(world, diary, *, start=None)",
+        "count_fit": "(world, diary, *, start=None)",
+        "ends_that_fit": "(world, diary, *, start=None)",
+        "paid": "(world, diary, *, start=None)",
+        "greatest_purse": "(world, diary, income, purse, *, start=None)",
+        "foretold": "(world, diary, name, *, start=None)",
+        "fitting_run": "(world, diary, *, start=None)",
+    },
+    ahead: {
+        "plan_fault": "(world, row, plan, *, start=None)",
+        "least_total": "(world, row, *, start=None)",
+        "best_plan": "(world, row, *, start=None)",
+        "least_purse": "(world, row, income, *, start=None)",
+        "frugal_plan": "(world, row, income, *, start=None)",
+    },
+    texts: {
+        "world_text": "(world)",
+        "row_text": "(row)",
+        "diary_text": "(diary)",
+        "read_world": "(text)",
+        "read_row": "(text)",
+        "read_diary": "(text)",
     },
 }
 
@@ -130,7 +159,8 @@ class InterfaceTest(unittest.TestCase):
                             (LabelWorld(2, 3), ["things", "labels"]),
                             (CallWorld((2,), (2,), 2), ["ins", "outs", "middles"]),
                             (SeatWorld(1, ((0,),)), ["seats", "wishes"]),
-                            (HelperWorld((((),),), 1), ["recipes", "rooms"])):
+                            (HelperWorld((((),),), 1), ["recipes", "rooms"]),
+                            (House(w, Share(2), 0), ["world", "standing", "purse", "answered", "paid"])):
             for name in names:
                 self.assertTrue(hasattr(told, name))
 
@@ -201,6 +231,24 @@ class InterfaceTest(unittest.TestCase):
         self.assertEqual(rules.breaking(start=0, purse=0, income=half, rule=rule), [(0, "go")])
         self.assertTrue(rules.follows(table={}, rule=rule))
 
+    def test_arguments_of_diaries_and_rows_by_name(self):
+        w = example()
+        half = Share(3, 2)
+        told = [("go", None)]
+        self.assertEqual([diaries.can_be(start=1, diary=told, world=w), diaries.count_fit(start=1, diary=told, world=w),
+                          diaries.ends_that_fit(start=1, diary=told, world=w),
+                          diaries.paid(start=1, diary=told, world=w),
+                          diaries.greatest_purse(start=1, purse=3, income=half, diary=told, world=w),
+                          diaries.foretold(start=1, name="go", diary=told, world=w)],
+                         [True, 3, [0, 1], (0, 3), 6, (True, True)])
+        self.assertEqual(diaries.fitting_run(start=0, diary=[(None, 0)], world=w), [(0, "go", 1)])
+        self.assertEqual([ahead.plan_fault(start=1, plan=[0], row=["go"], world=w),
+                          ahead.least_total(start=1, row=["go"], world=w),
+                          ahead.best_plan(start=1, row=["go"], world=w),
+                          ahead.least_purse(start=1, income=half, row=["go"], world=w),
+                          ahead.frugal_plan(start=1, income=half, row=["go"], world=w)],
+                         [None, (0, 3), [0], 3, [0]])
+
     def test_what_stands_behind_a_star(self):
         w = example()
         for call, args in ((worths.worth, (w, 1)), (worths.worths, (w, 1)), (worths.best_ask, (w, 1)),
@@ -208,7 +256,12 @@ class InterfaceTest(unittest.TestCase):
                            (purses.ladder, (w, [])), (papers.keeper_fault, (w, Share(2), 0, {}, {})),
                            (papers.keeper_paper, (w, Share(2))), (papers.foe_fault, (w, Share(2), 0, {}, {}, {})),
                            (papers.foe_paper, (w, Share(2), 0)), (papers.play, (w, Share(2), {}, {}, 0)),
-                           (rules.breaking, (Rule(w, "first"), Share(2), 0))):
+                           (rules.breaking, (Rule(w, "first"), Share(2), 0)), (diaries.can_be, (w, [])),
+                           (diaries.count_fit, (w, [])), (diaries.ends_that_fit, (w, [])), (diaries.paid, (w, [])),
+                           (diaries.greatest_purse, (w, [], Share(2), 0)), (diaries.foretold, (w, [], "go")),
+                           (diaries.fitting_run, (w, [])), (ahead.plan_fault, (w, [], [])),
+                           (ahead.least_total, (w, [])), (ahead.best_plan, (w, [])),
+                           (ahead.least_purse, (w, [], Share(2))), (ahead.frugal_plan, (w, [], Share(2)))):
             call(*args, start=0)
             with self.assertRaises(TypeError):
                 call(*args, 0)
