@@ -48,11 +48,20 @@ def paid(world, diary, *, start=None):
     """The pair of the least and the greatest total price of a run that fits, None if none fits."""
     check_diary(diary)
     begin = start_of(world, start)
-    leasts = carried(world, diary, begin, 0, lambda total, step: total + step[3], lambda one, two: min(one, two))
-    mosts = carried(world, diary, begin, 0, lambda total, step: total + step[3], lambda one, two: max(one, two))
-    if len(leasts) == 0:
+    bounds = carried(world, diary, begin, (0, 0), dearer, wider)
+    if len(bounds) == 0:
         return None
-    return min(list(leasts.values())), max(list(mosts.values()))
+    return min([least for least, _ in bounds.values()]), max([most for _, most in bounds.values()])
+
+
+def dearer(bounds, step):
+    """The least and the greatest total price with the price of the step."""
+    return bounds[0] + step[3], bounds[1] + step[3]
+
+
+def wider(one, two):
+    """The least and the greatest of two pairs of total prices."""
+    return min(one[0], two[0]), max(one[1], two[1])
 
 
 def greatest_purse(world, diary, income, purse, *, start=None):
@@ -68,7 +77,8 @@ def greatest_purse(world, diary, income, purse, *, start=None):
         return left if left >= 0 else None
 
     # Whoever has more at a standing can do there all that others can.
-    return max(list(carried(world, diary, begin, purse, change, lambda one, two: max(one, two)).values()), default=None)
+    rests = carried(world, diary, begin, purse, change, lambda one, two: max(one, two))
+    return max(list(rests.values()), default=None)
 
 
 def foretold(world, diary, name, *, start=None):

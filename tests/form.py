@@ -42,6 +42,13 @@ locals methodcaller os quit setattr super type vars sys""".split()
 WORDS = """type typing typing_extensions enum Enum IntEnum StrEnum Flag IntFlag Generic Protocol ABC ABCMeta
 namedtuple NamedTuple TypedDict TYPE_CHECKING abstractmethod""".split()
 
+AT_ONCE = "list tuple sorted sum min max any all".split()
+GIVES_LISTS = "list sorted range zip".split()
+CAUGHT_WITH_CARE = ("ValueError", "LookupError", "IndexError")
+CARE = """int str len isinstance abs ord enumerate list tuple bytes zip range sorted any all bool min max sum index remove
+get append pop strip lstrip rstrip upper lower isdigit isalpha isalnum startswith endswith find split replace ljust
+rjust zfill center join encode decode hex""".split()
+
 CHANGING = "append clear extend insert pop remove reverse setdefault update sort add discard".split()
 HEAPS = ("heappush", "heappop", "heapify", "heapreplace", "heappushpop")
 
@@ -124,7 +131,8 @@ def tree_faults(tree, names):
     found = []
     for node in ast.walk(tree):
         for looks in (statement_rules, function_rules, class_rules, value_rules, name_rules, call_rules, set_rules,
-                      library_rules, loop_rules, operator_rules):
+                      library_rules, loop_rules, operator_rules, lambda_rules, product_rules, generator_rules,
+                      handler_rules):
             found += [(rule, getattr(node, "lineno", 1)) for rule in looks(node)]
         if isinstance(node, ast.Name) and hasattr(builtins, node.id):
             if node.id not in BUILTINS or node.id in names:
@@ -164,6 +172,10 @@ def function_rules(node):
         if not (isinstance(one, ast.Attribute) and one.attr == "setter"):
             if getattr(one, "id", "") not in ("property", "staticmethod", "classmethod"):
                 yield "L4"
+    for value in node.args.defaults + [one for one in node.args.kw_defaults if one is not None]:
+        if any(isinstance(one, (ast.Call, ast.List, ast.Dict, ast.Set, ast.Lambda, ast.ListComp, ast.Compare, ast.IfExp))
+               for one in ast.walk(value)):
+            yield "L4"
     in_class = isinstance(node.parent, ast.ClassDef)
     if node.name.startswith("__") and (node.name not in DOUBLE or not in_class):
         yield "L5" if in_class else "L28"
@@ -361,3 +373,108 @@ def operator_rules(node):
                 yield "L5"
             if isinstance(one, (ast.AugAssign, ast.Delete)) or changed_in(one):
                 yield "L5"
+
+
+def lambda_rules(node):
+    """No two lambdas on one line have parameters of the same names."""
+    if isinstance(node, ast.Module):
+        rows = [(one.lineno, [arg.arg for arg in one.args.args]) for one in ast.walk(node)
+                if isinstance(one, ast.Lambda) and one.args.args]
+        if any(rows.count(row) > 1 for row in rows):
+            yield "L13"
+
+
+def product_rules(node):
+    """What itertools gives is iterated at once, over lists, and not in a generator."""
+    if not isinstance(node, ast.Call) or getattr(node.func, "id", "") not in LIBRARY["itertools"]:
+        return
+    owner = node.parent
+    if isinstance(owner, (ast.For, ast.comprehension)):
+        if owner.iter is not node or isinstance(owner.parent, ast.GeneratorExp):
+            yield "L2"
+    elif not (isinstance(owner, ast.Call) and getattr(owner.func, "id", "") in AT_ONCE and not owner.keywords):
+        yield "L2"
+    lists = node.args[:1] if node.func.id in ("combinations", "permutations") else node.args
+    if any(not gives_list(one) for one in lists):
+        yield "L2"
+    if any(isinstance(one, (ast.Yield, ast.YieldFrom)) for one in ast.walk(function_around(node) or ast.Pass())):
+        yield "L2"
+
+
+def gives_list(node):
+    if isinstance(node, ast.Call):
+        return getattr(node.func, "id", "") in GIVES_LISTS or getattr(node.func, "attr", "") == "items"
+    return isinstance(node, (ast.Name, ast.Attribute, ast.Subscript, ast.List, ast.ListComp, ast.Constant))
+
+
+def function_around(node):
+    while node is not None and not isinstance(node, (ast.FunctionDef, ast.Lambda)):
+        node = getattr(node, "parent", None)
+    return node
+
+
+def generator_rules(node):
+    """A yield is a statement of its own, under no try or with; a generator returns nothing."""
+    if not isinstance(node, (ast.Yield, ast.YieldFrom)):
+        return
+    owner = node.parent
+    if not isinstance(owner, ast.Expr):
+        yield "L23"
+    while not isinstance(owner, (ast.FunctionDef, ast.Lambda)):
+        if isinstance(owner, (ast.Try, ast.With)):
+            yield "L23"
+        owner = owner.parent
+    if isinstance(owner, ast.Lambda) or owner.decorator_list or owner.name in DOUBLE:
+        yield "L23"
+    if any(isinstance(one, ast.Return) and one.value is not None for one in ast.walk(owner)):
+        yield "L23"
+
+
+def handler_rules(node):
+    """Where some of Python's own errors are caught, nothing of one's own is called."""
+    if not isinstance(node, ast.Try):
+        return
+    kinds = [handler.type for handler in node.handlers if handler.type is not None]
+    caught = [one.id for kind in kinds for one in ast.walk(kind) if isinstance(one, ast.Name)]
+    if any(name in CAUGHT_WITH_CARE for name in caught):
+        for one in [one for row in node.body for one in ast.walk(row)]:
+            if isinstance(one, ast.Call) and getattr(one.func, "id", getattr(one.func, "attr", "")) not in CARE:
+                yield "L19"
+
+
+def quiet_faults(texts):
+    """What the operators of a package change, also in the functions that they call; faults of L5.
+
+    A package with an in-place operator has no += in them at all. Functions are told apart by their names alone.
+    """
+    trees = [ast.parse(text) for text in texts]
+    functions = {}
+    for tree in trees:
+        for one in ast.walk(tree):
+            if isinstance(one, ast.FunctionDef):
+                functions.setdefault(one.name, []).append(one)
+    in_place = [name for name in functions if name in DOUBLE and re.match("__i[a-z]", name) and name != "__invert__"
+                and name not in ("__init__", "__iter__")]
+    waiting = [name for name in functions if name in DOUBLE and name not in in_place
+               and name not in ("__init__", "__call__", "__setitem__", "__enter__", "__exit__")]
+    waiting += [one.name for rows in functions.values() for one in rows
+                if any(getattr(row, "id", "") == "property" for row in one.decorator_list)]
+    seen = set(waiting)
+    found = []
+    while waiting:
+        for one in functions[waiting.pop()]:
+            found += [("L5", row.lineno) for row in ast.walk(one) if is_loud(row, bool(in_place))]
+            for row in ast.walk(one):
+                name = getattr(row, "id", getattr(row, "attr", "")) if isinstance(row, (ast.Name, ast.Attribute)) else ""
+                if name in functions and name not in seen:
+                    seen.add(name)
+                    waiting.append(name)
+    return found
+
+
+def is_loud(node, in_place):
+    if isinstance(node, (ast.Attribute, ast.Subscript)):
+        return not isinstance(node.ctx, ast.Load)
+    if isinstance(node, ast.AugAssign):
+        return in_place or not isinstance(node.target, ast.Name)
+    return isinstance(node, ast.Call) and bool(changed_in(node))

@@ -6,7 +6,7 @@ import pathlib
 import re
 import unittest
 
-from tests.form import METHODS, PACKAGE, faults_of
+from tests.form import AT_ONCE, METHODS, PACKAGE, faults_of, quiet_faults
 
 FOLDER = pathlib.Path(__file__).resolve().parent.parent / PACKAGE
 
@@ -73,8 +73,29 @@ BROKEN = [
     ("L27", "def f(n):\n    return 2 ** n\n"),
     ("L27", "N = 'a\\d'\n"),
     ("L27", "N = 'a\\x41'\n"),
+    ("L2", "from itertools import permutations\n\n\ndef f(xs):\n    rows = permutations(xs)\n    return rows\n"),
+    ("L2", "from itertools import permutations\n\n\ndef f(xs):\n    return list(x for x in permutations(xs))\n"),
+    ("L2", "from itertools import permutations\n\n\ndef f(xs):\n    return list(permutations(tuple(xs)))\n"),
+    ("L2", "from itertools import product\n\n\ndef f(xs):\n    for x in product(xs, xs):\n        yield x\n"),
+    ("L4", "def f(xs=[]):\n    return xs\n"),
+    ("L4", "def f(*, n=len('a')):\n    return n\n"),
+    ("L13", "def f(g):\n    return g(lambda x: x, lambda x: x + 1)\n"),
+    ("L19", "def f(x):\n    try:\n        return g(x)\n    except ValueError:\n        return 1\n"),
+    ("L23", "def f(x):\n    y = yield x\n    return\n"),
+    ("L23", "def f(x):\n    try:\n        yield x\n    except KeyError:\n        return\n"),
+    ("L23", "def f(x):\n    yield x\n    return 1\n"),
+    ("L23", "class A:\n    @property\n    def f(self):\n        yield 1\n"),
     ("L28", "class A:\n    def __init__(self):\n        return None\n"),
     ("L28", "def __len__(x):\n    return 1\n"),
+]
+
+# A package of each of these files breaks L5: what an operator runs changes something.
+LOUD = [
+    "class A:\n    def __add__(self, other):\n        return told(other)\n\n\ndef told(xs):\n    xs.append(1)\n",
+    "class A:\n    def __len__(self):\n        return len(self.f())\n\n    def f(self):\n        self.n = 1\n",
+    "class A:\n    @property\n    def f(self):\n        return g([1])\n\n\ndef g(xs):\n    xs[0] = 2\n    return xs\n",
+    "class A:\n    def __iadd__(self, n):\n        return self\n\n    def __contains__(self, n):\n        return f(n)\n\n\n"
+    "def f(n):\n    n += 1\n    return n > 2\n",
 ]
 
 
@@ -115,6 +136,24 @@ class FormTest(unittest.TestCase):
     def test_faults_are_found(self):
         for rule, text in BROKEN:
             self.assertIn(rule, [fault[0] for fault in faults_of(text)], text)
+
+    def test_operators_and_properties_change_nothing(self):
+        self.assertEqual(quiet_faults([text for _, text in sources()]), [])
+        for text in LOUD:
+            self.assertIn("L5", [fault[0] for fault in quiet_faults([text])], text)
+
+    def test_generators_are_iterated_at_once(self):
+        trees = [ast.parse(text) for _, text in sources()]
+        names = {one.name for tree in trees for one in ast.walk(tree) if isinstance(one, ast.FunctionDef)
+                 and any(isinstance(row, (ast.Yield, ast.YieldFrom)) for row in ast.walk(one))}
+        self.assertEqual(names, {"watch"})
+        for tree in trees:
+            right = [one.iter for one in ast.walk(tree) if isinstance(one, (ast.For, ast.comprehension))]
+            right += [one.args[0] for one in ast.walk(tree) if isinstance(one, ast.Call) and one.args
+                      and getattr(one.func, "id", "") in AT_ONCE]
+            for one in ast.walk(tree):
+                if isinstance(one, ast.Call) and getattr(one.func, "attr", getattr(one.func, "id", "")) in names:
+                    self.assertIn(one, right)
 
     def test_folder_contains_python_files_alone(self):
         self.assertIn(FOLDER / "__init__.py", files())

@@ -165,7 +165,7 @@ class TextTest(unittest.TestCase):
                      "0: a=0/-1\nstart 0", "0: a=0/+1\nstart 0", "0: a=0/01\nstart 0", "0: a=00/1\nstart 0",
                      "0: a=0/1_0\nstart 0", "0: a=0/1.0\nstart 0", "0: a=0/ 1\nstart 0", "00: a=0/1\nstart 0",
                      "0: a=0/1\nstart 00", "0: a=0/1\nstart -0", "0: a=0/1\nStart 0", "0: A=0/1\nstart 0",
-                     "0: a=0/\u0661\nstart 0", "0: a=0/\u00b2\nstart 0", "\u0660: a=0/1\nstart 0",
+                     "0: a=0/0x1\nstart 0", "0: a=x/1\nstart 0", "0: a=0/\u0661\nstart 0", "0: a=0/\u00b2\nstart 0", "\u0660: a=0/1\nstart 0",
                      "0: a=0/1\nstart \u0660", "0: a=0/1/2\nstart 0", "0: a=0\nstart 0", "0: a=0/1,\nstart 0"):
             self.assertEqual(error_of(read_world, text), (BadText, text), text)
         right = "0: a=0/1\nstart 0"
@@ -229,7 +229,7 @@ class TextTest(unittest.TestCase):
             self.assertEqual(error_of(read_row, text), (BadText, text))
         for text in ("", " ", "\n", "--", "- -", "go", "go:", ":1", ":", "go:1:2", "go:01", "go:-1", "go:+1", "go:1 ",
                      " go:1", "go:1  go:1", "go:1\n", "go:\u0661", "go:\u00b2", "??:1", "?:??", "None:1", "go:None",
-                     "Go:1", "a" * 13 + ":1", "go:1 -", "go : 1", "go:1,go:1", "go:1_0", "go:1.0", "go:00"):
+                     "Go:1", "a" * 13 + ":1", "go:1 -", "go : 1", "go:1,go:1", "go:1_0", "go:1.0", "go:00", "go:x", "go:0x1"):
             self.assertEqual(error_of(read_diary, text), (BadText, text))
 
     def test_wrong_values(self):
