@@ -233,7 +233,8 @@ def listed():
     foes = [foe_paper(w, HALF, 0)] * 2
     one = ((), ((0, 0),))
     rows = [
-        (Share, {"top": 1, "bottom": 2}, ["top", "bottom"]),
+        (Share, {"top": 1, "bottom": 2}, ["top", "bottom"]), (HALF.below, {"x": 2}, []), (HALF.__eq__, {"other": w}, []),
+        (w.__eq__, {"other": HALF}, []), (rule.__eq__, {"other": w}, []),
         (World, {"turns": w.turns, "asks": w.asks, "start": 0}, ["turns", "asks", "start"]),
         (w.by_turns, {"standing": 0}, ["standing"]), (w.asked, {"standing": 0}, ["standing"]),
         (w.reach, {"standing": 0}, ["standing"]), (w.with_start, {"start": 1}, ["start"]),
